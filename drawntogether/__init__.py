@@ -1,0 +1,1 @@
+"""Proof structures and nets: read, written, switched and drawn together."""
