@@ -39,6 +39,16 @@ def atoms(formula):
     return [node for node in formula if is_atom(node)]
 
 
+# The first and the second formula that a tensor or a par is of.
+def two_of(formula):
+    end = 1
+    missing = 1
+    while missing > 0:
+        missing += -1 if is_atom(formula[end]) else 1
+        end += 1
+    return [formula[1:end], formula[end:]]
+
+
 def depth(formula):
     depths = []
     for node in reversed(formula):

@@ -1,8 +1,9 @@
 """The calls on one object that holds a structure, and their answers."""
 
-from drawntogether.formulas import PAR, TENSOR, in_bounds
+from drawntogether.changes import with_conclusions_at, with_first_as_last, with_first_cut_as, with_partners_exchanged
+from drawntogether.formulas import PAR, TENSOR, atoms, dual, in_bounds, two_of
 from drawntogether.graphs import draws_together, first_bad, graph_of, switched
-from drawntogether.reading import read_pieces
+from drawntogether.reading import MOST_FORMULAS, read_pieces
 from drawntogether.structures import MOST_LEAVES, Structure, all_formulas, leaves_of, nodes_of
 from drawntogether.structures import partners_by, written_structure
 
@@ -20,6 +21,11 @@ TOO_MANY_PARS = -7
 class Holder:
     def __init__(self):
         self.structure = Structure([], [], [])
+
+
+# Below 0 Python would count from the end, which no call means.
+def has_place(values, place):
+    return 0 <= place < len(values)
 
 
 # Each of the calls takes the holder and what is given to it, and gives back
@@ -85,8 +91,76 @@ def tell_switch(holder, switching):
     return switched(graph, switching)
 
 
+def tell_partner(holder, given):
+    partners = holder.structure.partners
+    if not has_place(partners, given[0]):
+        return [NOT_THERE]
+    return [partners[given[0]]]
+
+
+def swap_partners(holder, given):
+    structure = holder.structure
+    leaf = given[0]
+    other = given[1]
+    leaves = leaves_of(structure.formulas())
+    if not has_place(leaves, leaf) or not has_place(leaves, other):
+        return [NOT_THERE]
+    if leaves[leaf] != leaves[other]:
+        return [NOT_FITTING]
+    holder.structure = with_partners_exchanged(structure, leaf, other)
+    return [1 if holder.structure.partners != structure.partners else 0]
+
+
+def open_par(holder, given):
+    place = given[0]
+    conclusions = holder.structure.conclusions
+    if not has_place(conclusions, place):
+        return [NOT_THERE]
+    if conclusions[place][0] != PAR:
+        return [NOT_FITTING]
+    if len(conclusions) + 1 > MOST_FORMULAS:
+        return [TOO_MANY]
+    holder.structure = with_conclusions_at(holder.structure, place, 1, two_of(conclusions[place]))
+    return [len(holder.structure.conclusions)]
+
+
+def shut_two(holder, given):
+    place = given[0]
+    conclusions = holder.structure.conclusions
+    if not has_place(conclusions, place) or not has_place(conclusions, place + 1):
+        return [NOT_THERE]
+    par = [PAR] + conclusions[place] + conclusions[place + 1]
+    if not in_bounds(par):
+        return [NOT_IN_BOUNDS]
+    holder.structure = with_conclusions_at(holder.structure, place, 2, [par])
+    return [len(holder.structure.conclusions)]
+
+
+def bare_cut(holder, given):
+    structure = holder.structure
+    if not structure.cuts:
+        return [NOT_THERE]
+    tensor = [TENSOR] + structure.cuts[0] + dual(structure.cuts[0])
+    if not in_bounds(tensor):
+        return [NOT_IN_BOUNDS]
+    if len(structure.conclusions) + 1 > MOST_FORMULAS:
+        return [TOO_MANY]
+    holder.structure = with_first_cut_as(structure, tensor)
+    return [len(holder.structure.cuts)]
+
+
+def turn_conclusions(holder, given):
+    structure = holder.structure
+    if not structure.conclusions:
+        return [NOT_THERE]
+    holder.structure = with_first_as_last(structure)
+    return [len(atoms(structure.conclusions[0]))]
+
+
 # The calls that are given a row, set and switch.
 WITH_ROW = (0, 6)
+# How many numbers the others are given, where they are given any.
+GIVEN_NUMBERS = {7: 1, 8: 2, 9: 1, 10: 1}
 ANSWERERS = {
     0: set_text,
     1: tell_form,
@@ -95,17 +169,23 @@ ANSWERERS = {
     4: tell_bad,
     5: tell_draw,
     6: tell_switch,
+    7: tell_partner,
+    8: swap_partners,
+    9: open_par,
+    10: shut_two,
+    11: bare_cut,
+    12: turn_conclusions,
 }
 
 
-# For each call its number and the row that is given to it.
+# For each call its number and the row or the numbers that are given to it.
 def split_calls(calls):
     found = []
     place = 0
     while place < len(calls):
         number = calls[place]
         start = place + 1
-        end = start
+        end = start + GIVEN_NUMBERS.get(number, 0)
         if number in WITH_ROW:
             start = place + 2
             end = start + calls[place + 1]

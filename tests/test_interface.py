@@ -3,9 +3,11 @@
 import unittest
 
 from drawntogether.nets import answers
-from tests.lines import ask, as_bytes, packed
+from tests.lines import FAR, ask, as_bytes, packed
 
 FIRST_FORM = list(b"a, ~a ;  ; 0-1")
+CHANGING = ["form", "turn", ("shut", 0), "form", ("set", "a|a, ~a*~a ; a, b ; 0-2 1-5 3-4 6-7"), "form", ("swap", 0, 1),
+            ("open", 0), "turn", "bare", ("shut", 1), "form", "bare", "test", "bad", "draw", ("partner", 3), "form"]
 
 
 class Lists(unittest.TestCase):
@@ -19,6 +21,17 @@ class Lists(unittest.TestCase):
         self.assertEqual(answers([6, 1, 0]), [1, -1])
         self.assertEqual(answers([0, 2, 59, 59]), [1, 0])
         self.assertEqual(answers([0, 0]), [1, -1])
+        self.assertEqual(answers([7, 1]), [1, 0])
+        self.assertEqual(answers([7, -FAR]), [1, -4])
+        self.assertEqual(answers([8, 1, 1]), [1, 0])
+        self.assertEqual(answers([8, 0, 1]), [1, -3])
+        self.assertEqual(answers([8, FAR, -FAR]), [1, -4])
+        self.assertEqual(answers([9, 0]), [1, -3])
+        self.assertEqual(answers([9, FAR]), [1, -4])
+        self.assertEqual(answers([10, 0]), [1, 1])
+        self.assertEqual(answers([10, -FAR]), [1, -4])
+        self.assertEqual(answers([11]), [1, -4])
+        self.assertEqual(answers([12]), [1, 1])
 
     def test_calls_behind_one_another(self):
         text = as_bytes("a|b, ~a|~b ; ; 0-2 1-3")
@@ -26,7 +39,20 @@ class Lists(unittest.TestCase):
         self.assertEqual(answers(line), [1, 4, 5, 2, 0, 0, 0, 2, 2, 0, 2, 1, 0, 1, -1, 1, -1, 1, 0,
                                          7, 2, 0, 4, 2, 0, 2, 6])
 
+    def test_numbers_that_look_like_calls(self):
+        line = [7, 7, 8, 8, 8, 9, 9, 10, 10, 7, 0, 8, 0, 12, 9, 12, 10, 11, 12, 7, 1, 10, 0, 9, 0, 11, 5]
+        self.assertEqual(answers(line), [1, -4, 1, -4, 1, -4, 1, -4, 1, 1, 1, -4, 1, -4, 1, -4, 1, 1, 1, 0, 1, 1, 1, 2,
+                                         1, -4, 1, 1])
+
+    def test_all_thirteen_calls(self):
+        text = as_bytes("a|b, ~a|~b ; a*b ; 0-6 1-7 2-4 3-5")
+        line = [0, len(text)] + text + [9, 0, 12, 7, 0, 8, 0, 1, 8, 0, 0, 10, 1, 11, 2, 3, 4, 5, 6, 3, 0, 0, 1, 1]
+        form = list(b"b, (~a|~b)|a, (a*b)*(~a|~b) ;  ; 0-7 1-4 2-5 3-6")
+        self.assertEqual(answers(line), [1, 8, 1, 3, 1, 1, 1, 7, 1, -3, 1, 0, 1, 2, 1, 0] + [7, 3, 0, 8, 4, 2, 3, 13]
+                         + [1, 0, 6, 3, 0, 0, 0, 0, 2, 1, 0, 2, 0, 2] + [len(form) + 1, len(form)] + form)
+
     def test_240_calls(self):
+        self.assertEqual(answers([12, 10, 0, 9, 0] * 80), [1, 1, 1, 1, 1, 2] * 80)
         self.assertEqual(answers([5] * 240), [1, 1] * 240)
         self.assertEqual(answers([1] * 240), ([15, 14] + FIRST_FORM) * 240)
         text = as_bytes("a|b, ~a|~b ; ; 0-2 1-3")
@@ -42,6 +68,9 @@ class Lists(unittest.TestCase):
     def test_whole_numbers_alone(self):
         told = answers(packed(["form", "size", "test", "bad", "draw", ("switch", []), ("set", "a|~a;;0-1"),
                                "test", ("switch", [1]), ("set", ";;"), "bad", ("set", "")]))
+        told += answers(packed([("set", "a, a, ~a, ~a ; b ; 0-2 1-3 4-5"), ("partner", 4), ("swap", 0, 0),
+                                ("swap", 0, 1), ("swap", 0, 2), ("shut", 1), ("open", 1), ("open", 1), "bare", "turn",
+                                "bare", ("partner", -1), "form", "size"]))
         self.assertIs(type(told), list)
         self.assertEqual({type(number) for number in told}, {int})
 
@@ -55,6 +84,21 @@ class Kept(unittest.TestCase):
         before = list(line)
         answers(line)
         self.assertEqual(line, before)
+
+    def test_handed_in_unchanged_by_changes(self):
+        before = packed(CHANGING)
+        line = list(before)
+        answers(line)
+        self.assertEqual(line, before)
+
+    def test_nothing_kept_of_changes(self):
+        told = answers(packed(CHANGING))
+        self.assertEqual(answers([1, 7, 0, 7, 1]), [15, 14] + FIRST_FORM + [1, 1, 1, 0])
+        self.assertEqual(answers(packed(CHANGING)), told)
+        # Without set all changes are made on the structure of a line's beginning.
+        for line in ([12, 1], [10, 0, 1], [10, 0, 9, 0, 12, 1]):
+            self.assertEqual(answers(line), answers(list(line)))
+            self.assertEqual(answers([1]), [15, 14] + FIRST_FORM)
 
     def test_nothing_kept(self):
         line = packed(["form", "bad", ("set", "a|b, ~a|~b ; ; 0-2 1-3"), "form", "bad", "draw"])
